@@ -1,0 +1,1 @@
+"""Markrun: a small processor, from text to words and back."""

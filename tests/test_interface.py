@@ -1,0 +1,26 @@
+import importlib
+import inspect
+import unittest
+
+FUNCTIONS = {
+    "bits": (
+        "added(one, other, carry)", "taken(one, other, borrow)", "moved_left(word, count)",
+        "moved_right(word, count)", "part(word, low, width)", "with_part(word, low, width, number)",
+        "signed(number, width)", "unsigned(number, width)", "bytes_of(word)", "word_of(four)",
+    ),
+    "hexes": ("hex_text(word)", "read_hex(text)"),
+}
+
+
+class Interface(unittest.TestCase):
+    def test_functions_are_there_with_their_arguments(self):
+        for file, wanted in FUNCTIONS.items():
+            module = importlib.import_module("markrun." + file)
+            for call in wanted:
+                with self.subTest(file=file, call=call):
+                    function = getattr(module, call.partition("(")[0])
+                    self.assertEqual(function.__name__ + str(inspect.signature(function)), call)
+
+
+if __name__ == "__main__":
+    unittest.main()
