@@ -9,6 +9,14 @@ BEYOND = 4294967296
 BYTE_LOWS = (0, 8, 16, 24)
 
 
+# Whether a thing, of whatever sort, is a number that so many bits tell.
+def is_number(thing, width):
+    # Python counts True and False as numbers.
+    if isinstance(thing, bool) or not isinstance(thing, int):
+        return False
+    return 0 <= thing and thing < (1 << width)
+
+
 def added(one, other, carry):
     total = one + other + (1 if carry else 0)
     return (total % BEYOND, total >= BEYOND)

@@ -3,8 +3,12 @@
 # A mark's number in a word is its place here.
 MARKS = ("carry", "nought", "sign")
 
-# A name has from one to so many letters.
+# A name has from one to so many of these letters.
 NAME_LONGEST = 8
+LETTERS = "abcdefghijklmnopqrstuvwxyz"
+
+# The kinds of rows that lead to a label; its name stands last in them.
+JUMPS = ("jump", "when", "unless")
 
 # What stands behind the kind in an item, in order: "d" and "s" are numbers
 # of registers, "n" is another number, "mark" one of MARKS, "name" a label's.

@@ -9,6 +9,10 @@ FUNCTIONS = {
         "signed(number, width)", "unsigned(number, width)", "bytes_of(word)", "word_of(four)",
     ),
     "hexes": ("hex_text(word)", "read_hex(text)"),
+    "items": ("is_item(thing)", "is_program(thing)", "rows_of(items)", "place_of(items, name)"),
+    "texts": ("shown(items)", "read(text)", "fault(text)"),
+    "plainly": ("name_of(number)", "plain(items)"),
+    "places": ("addresses(items, far)",),
 }
 
 

@@ -43,6 +43,12 @@ class Kinds(unittest.TestCase):
     def test_marks_and_names(self):
         self.assertEqual(kinds.MARKS, ("carry", "nought", "sign"))
         self.assertEqual(kinds.NAME_LONGEST, 8)
+        self.assertEqual(kinds.LETTERS, "".join(chr(number) for number in range(ord("a"), ord("z") + 1)))
+
+    def test_jumps_are_just_the_rows_with_a_name(self):
+        named = [kind for kind, fields in kinds.FIELDS.items() if "name" in fields and kind != "label"]
+        self.assertEqual(kinds.JUMPS, tuple(named))
+        self.assertEqual([kinds.FIELDS[kind][-1] for kind in named], ["name"] * 3)
 
     def test_where_a_word_tells_what(self):
         self.assertEqual(
