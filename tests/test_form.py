@@ -39,6 +39,11 @@ METHODS = (
     " items join keys ljust lower lstrip partition pop remove replace reverse rfind rjust rpartition rsplit rstrip"
     " setdefault split splitlines startswith strip update upper values zfill bit_length"
 ).split()
+# L22
+KEYWORDS = {
+    "sorted": ("key", "reverse"), "min": ("key", "default"), "max": ("key", "default"), "sum": ("start",),
+    "enumerate": ("start",), "zip": ("strict",),
+}
 # L23
 WALKED = ("zip", "enumerate", "reversed", "range", "items", "keys", "values")
 WALKERS = ("list", "tuple", "dict", "sorted", "sum", "any", "all", "enumerate", "zip", "min", "max", "join")
@@ -259,7 +264,8 @@ class Expressions(unittest.TestCase):
     def test_keywords(self):
         for node, where in nodes(ast.Call):
             if called(node) in OWN or called(node) in METHODS:
-                self.assertEqual(node.keywords, [], where)
+                for keyword in node.keywords:
+                    self.assertIn(keyword.arg, KEYWORDS.get(called(node), ()), where)
 
 
 class Names(unittest.TestCase):

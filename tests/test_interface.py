@@ -13,6 +13,9 @@ FUNCTIONS = {
     "texts": ("shown(items)", "read(text)", "fault(text)"),
     "plainly": ("name_of(number)", "plain(items)"),
     "places": ("addresses(items, far)",),
+    "reach": ("reaches(items, far)", "far_rows(items)"),
+    "words": ("word_of_row(row)", "written(items)"),
+    "unwords": ("row_at(words, address)", "read_words(words)", "word_fault(words)"),
 }
 
 
