@@ -19,6 +19,15 @@ FUNCTIONS = {
 }
 
 
+METHODS = (
+    "step(self)", "run(self, most=1000)", "registers(self)", "marks(self)", "memory(self)", "byte(self, address)",
+    "place(self)", "stands(self)", "steps(self)", "again(self)",
+)
+MACHINES = {
+    "rowrun": "RowMachine(items, registers=None, memory=None)",
+}
+
+
 class Interface(unittest.TestCase):
     def test_functions_are_there_with_their_arguments(self):
         for file, wanted in FUNCTIONS.items():
@@ -27,6 +36,17 @@ class Interface(unittest.TestCase):
                 with self.subTest(file=file, call=call):
                     function = getattr(module, call.partition("(")[0])
                     self.assertEqual(function.__name__ + str(inspect.signature(function)), call)
+
+    def test_machines_are_there_with_their_methods(self):
+        base = importlib.import_module("markrun.machine").Machine
+        for file, call in MACHINES.items():
+            machine = getattr(importlib.import_module("markrun." + file), call.partition("(")[0])
+            self.assertEqual(machine.__name__ + str(inspect.signature(machine)), call)
+            self.assertEqual(machine.__bases__, (base,))
+            for method in METHODS:
+                with self.subTest(file=file, method=method):
+                    function = getattr(machine, method.partition("(")[0])
+                    self.assertEqual(function.__name__ + str(inspect.signature(function)), method)
 
 
 if __name__ == "__main__":
