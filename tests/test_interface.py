@@ -16,6 +16,9 @@ FUNCTIONS = {
     "reach": ("reaches(items, far)", "far_rows(items)"),
     "words": ("word_of_row(row)", "written(items)"),
     "unwords": ("row_at(words, address)", "read_words(words)", "word_fault(words)"),
+    "flow": ("used(row)", "put(row)", "next_rows(items, number)", "reached(items)"),
+    "needs": ("needs(items)",),
+    "leading": ("led_on(items)",),
 }
 
 
@@ -25,6 +28,7 @@ METHODS = (
 )
 MACHINES = {
     "rowrun": "RowMachine(items, registers=None, memory=None)",
+    "wordrun": "WordMachine(words, registers=None, memory=None)",
 }
 
 
