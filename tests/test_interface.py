@@ -19,6 +19,13 @@ FUNCTIONS = {
     "flow": ("used(row)", "put(row)", "next_rows(items, number)", "reached(items)"),
     "needs": ("needs(items)",),
     "leading": ("led_on(items)",),
+    "dropping": ("idle(items)", "without(items, numbers)"),
+    "shorter": ("short(items)",),
+    "listing": ("listing(words)", "read_listing(text)"),
+    "desk": (
+        "assembled(text)", "assembled_short(text)", "text_of_words(words)",
+        "left_by(text, registers=None, memory=None, most=1000)",
+    ),
 }
 
 

@@ -12,7 +12,7 @@ from markrun.words import written
 from programs import program, some_program
 from running import some_state, told_by
 from telling import TellingCase
-from wording import NEAR, far_words, wanted_word
+from wording import jump_numbers, written_far
 
 FAR_JUMP = 0xA8000000
 NOTHING = (False, False, False)
@@ -39,26 +39,6 @@ class WordMethods(machines.Methods):
 
 class WordStates(machines.States):
     made = staticmethod(made)
-
-
-def all_jumps(items):
-    return [number for number, row in enumerate(rows_of(items)) if row[0] in NEAR]
-
-
-def written_far(items):
-    """The words of a program with all of its jumps far."""
-    at, places, words, number = addresses(items, all_jumps(items)), {}, [], 0
-    for item in items:
-        if item[0] == "label":
-            places[item[1]] = number
-        else:
-            number += 1
-    for number, row in enumerate(rows_of(items)):
-        if row[0] in NEAR:
-            words.extend(far_words(row, at[places[row[-1]]] - at[number]))
-        else:
-            words.append(wanted_word(row))
-    return words
 
 
 class Alike(TellingCase):
@@ -92,7 +72,7 @@ class Alike(TellingCase):
         for seed in range(60):
             items = some_program(seed, rows=20, jumps=3, labels=4)
             words = written_far(items)
-            self.assert_alike(items, words, addresses(items, all_jumps(items)), seed)
+            self.assert_alike(items, words, addresses(items, jump_numbers(items)), seed)
 
     def test_the_program_that_is_read_back(self):
         for seed in range(20):

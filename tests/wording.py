@@ -58,3 +58,26 @@ def jumps():
     for kind in ("when", "unless"):
         told.extend((kind, mark, "a") for mark in MARKS)
     return told
+
+
+def jump_numbers(items):
+    rows = [item for item in items if item[0] != "label"]
+    return [number for number, row in enumerate(rows) if row[0] in NEAR]
+
+
+def written_far(items):
+    """The words of a program with all of its jumps far."""
+    places, at, address = {}, [], 0
+    for item in items:
+        if item[0] == "label":
+            places[item[1]] = address
+        else:
+            at.append(address)
+            address += 2 if item[0] in NEAR else 1
+    words = []
+    for number, row in enumerate([item for item in items if item[0] != "label"]):
+        if row[0] in NEAR:
+            words.extend(far_words(row, places[row[-1]] - at[number]))
+        else:
+            words.append(wanted_word(row))
+    return words
